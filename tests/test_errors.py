@@ -1,0 +1,51 @@
+"""The refusals and the names of the interface."""
+
+import unittest
+
+from treerounds import errors
+from treerounds.webs import drawn_in, texts
+
+OF_TEXT = ("NoTree", "NoTie", "NoNumber", "NoEnd", "NoAsk")
+ALL = OF_TEXT + ("NoWeb", "NoName")
+
+PLACES = {
+    errors: ("TreeError",) + ALL,
+    texts: ("read_web", "web_shown"),
+    drawn_in: ("web_without", "web_drawn_in"),
+}
+
+
+class Refusals(unittest.TestCase):
+    def test_all_stand_under_tree_error_alone(self):
+        self.assertEqual(errors.TreeError.__bases__, (ValueError,))
+        for name in ALL:
+            self.assertEqual(getattr(errors, name).__bases__, (errors.TreeError,), name)
+
+    def test_none_is_of_another_ones_class(self):
+        for name in ALL:
+            for other in ALL:
+                under = issubclass(getattr(errors, name), getattr(errors, other))
+                self.assertEqual(under, name == other, (name, other))
+
+    def test_made_of_a_text(self):
+        for name in OF_TEXT + ("TreeError",):
+            self.assertEqual(str(getattr(errors, name)("some words")), "some words")
+
+    def test_no_web_keeps_its_row(self):
+        self.assertEqual(errors.NoWeb(7).row, 7)
+        self.assertEqual(errors.NoWeb(0).row, 0)
+
+    def test_no_name_keeps_its_word(self):
+        self.assertEqual(errors.NoName("ab").word, "ab")
+        self.assertEqual(errors.NoName("").word, "")
+
+
+class Interface(unittest.TestCase):
+    def test_each_name_is_defined_in_its_own_file(self):
+        for module, names in PLACES.items():
+            for name in names:
+                self.assertEqual(getattr(module, name).__module__, module.__name__, name)
+
+
+if __name__ == "__main__":
+    unittest.main()

@@ -1,0 +1,1 @@
+"""Treerounds: all trees of a web."""

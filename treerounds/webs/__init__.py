@@ -1,0 +1,1 @@
+"""Webs: read, written, without a tie, with a tie drawn in."""
