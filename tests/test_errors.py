@@ -3,6 +3,8 @@
 import unittest
 
 from treerounds import errors
+from treerounds.rounds import rounds
+from treerounds.trees import counts, orders, trees
 from treerounds.webs import drawn_in, texts
 
 OF_TEXT = ("NoTree", "NoTie", "NoNumber", "NoEnd", "NoAsk")
@@ -12,6 +14,11 @@ PLACES = {
     errors: ("TreeError",) + ALL,
     texts: ("read_web", "web_shown"),
     drawn_in: ("web_without", "web_drawn_in"),
+    trees: ("is_tree", "way_in", "exchanges_of", "exchanged", "exchanges_between"),
+    counts: ("count_trees", "weigh_trees", "count_with", "tree_at", "number_of"),
+    orders: ("all_trees", "next_tree", "all_shown"),
+    rounds: ("tree_round", "row_shown", "round_shown", "exchanges_along", "row_by",
+             "row_from_with"),
 }
 
 

@@ -1,0 +1,1 @@
+"""Rows and rounds of all trees of a web."""

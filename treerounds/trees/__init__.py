@@ -1,0 +1,1 @@
+"""Trees of a web: told, exchanged, counted, in order."""
