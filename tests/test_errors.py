@@ -3,7 +3,10 @@
 import unittest
 
 from treerounds import errors
+from treerounds.cheap import cheapest
+from treerounds.drawn import drawn, heaps
 from treerounds.rounds import rounds
+from treerounds.shares import shares
 from treerounds.trees import counts, orders, trees
 from treerounds.webs import drawn_in, texts
 
@@ -19,6 +22,10 @@ PLACES = {
     orders: ("all_trees", "next_tree", "all_shown"),
     rounds: ("tree_round", "row_shown", "round_shown", "exchanges_along", "row_by",
              "row_from_with"),
+    cheapest: ("cost_of", "cheapest", "cheap_paper", "cheap_shown"),
+    drawn: ("drawn_by", "drawn_share"),
+    heaps: ("popped", "pop_paper", "pops_shown"),
+    shares: ("share_of", "share_of_both", "hardness"),
 }
 
 

@@ -1,0 +1,1 @@
+"""Trees in order of cost."""

@@ -1,0 +1,1 @@
+"""Trees drawn by numbers, by fractions, and by popping heaps of arrows."""

@@ -1,0 +1,1 @@
+"""Shares of the weights of all trees."""
