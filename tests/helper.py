@@ -1,6 +1,7 @@
 """What the tests have in common: webs, trees found by a plain going through, refusals."""
 
 import itertools
+import random
 import unittest
 
 from treerounds import errors
@@ -104,6 +105,70 @@ def apart(one, other):
     return len(set(one) - set(other))
 
 
+def arrow_web(many, pairs):
+    """The arrow web of so many names and of pairs (from, to), perhaps alike."""
+    return tuple(PLACES[:many]), tuple(sorted(tuple(pair) for pair in pairs))
+
+
+def small_arrow_webs():
+    """All arrow webs of up to three names, arrows of two also alike, and some of four and five."""
+    for many in range(1, 4):
+        pairs = list(itertools.permutations(PLACES[:many], 2))
+        for size in range(len(pairs) + 1):
+            for some in itertools.combinations(pairs, size):
+                yield arrow_web(many, some)
+    for size in range(3, 7):
+        for some in itertools.combinations_with_replacement(["ab", "ba"], size):
+            yield arrow_web(2, some)
+            yield arrow_web(4, some)
+    chosen = random.Random(5)
+    for many in (4, 5):
+        pairs = list(itertools.permutations(PLACES[:many], 2))
+        for _ in range(60):
+            yield arrow_web(many, chosen.choices(pairs, k=chosen.randint(3, 9)))
+
+
+def even_arrow_webs():
+    """Even arrow webs, made of rounds that hang together: arrows alike, names without arrows."""
+    for many in range(1, 5):
+        yield arrow_web(many, [])
+    for rounds in (["ab"], ["ab", "ab"], ["ab", "ab", "ab"], ["abc"], ["abc", "abc"],
+                   ["abc", "cba"], ["ab", "bc", "ca"], ["ab", "bc", "cd"], ["abcd", "ac"],
+                   ["abcd", "dcba"], ["bd", "bd"], ["bde", "eb"], ["abc", "cde", "eb"],
+                   ["ab", "ac", "ad", "ae"], ["abcde", "ac", "bd"]):
+        for many in (5, 6):
+            yield arrow_web(many, [pair for names in rounds
+                                   for pair in zip(names, names[1:] + names[:1])])
+
+
+def great_arrow_web():
+    """Twelve names and twenty-four arrows: each name leads to the two next ones around."""
+    return arrow_web(12, [(PLACES[at], PLACES[(at + step) % 12])
+                          for at in range(12) for step in (1, 2)])
+
+
+def plain_led(web, root, names=None):
+    """All led trees to a root of some names, or of all, by going through all rows of arrows."""
+    names = web[0] if names is None else names
+    arrows = web[1]
+    found = []
+    for row in itertools.combinations(range(len(arrows)), len(names) - 1):
+        steps = {arrows[number][0]: arrows[number][1] for number in row}
+        if len(steps) == len(row) and root not in steps and all(
+                leads_to(steps, name, root) for name in names):
+            found.append(row)
+    return found
+
+
+def leads_to(steps, name, root):
+    """Whether steps from name to name lead a name to a root."""
+    for _ in range(len(steps) + 1):
+        if name == root:
+            return True
+        name = steps.get(name)
+    return False
+
+
 WHEEL = web_of_pairs(6, [("a", name) for name in "bcdef"]
                      + [("b", "c"), ("c", "d"), ("d", "e"), ("e", "f"), ("b", "f")])
 
@@ -111,7 +176,7 @@ WHEEL = web_of_pairs(6, [("a", name) for name in "bcdef"]
 class Refusing(unittest.TestCase):
     def assert_refused(self, kind, function, *arguments):
         """That a call is refused with just this class; tells the error."""
-        with self.assertRaises(kind) as caught:
+        with self.assertRaises(kind, msg=function.__name__) as caught:
             function(*arguments)
         self.assertIsInstance(caught.exception, errors.TreeError)
         self.assertIsInstance(caught.exception, ValueError)

@@ -3,12 +3,15 @@
 import unittest
 
 from treerounds import errors
+from treerounds.apart import apart
 from treerounds.cheap import cheapest
 from treerounds.drawn import drawn, heaps
+from treerounds.led import led_trees, tours
 from treerounds.rounds import rounds
 from treerounds.shares import shares
 from treerounds.trees import counts, orders, trees
 from treerounds.webs import drawn_in, texts
+from treerounds.words import full
 
 OF_TEXT = ("NoTree", "NoTie", "NoNumber", "NoEnd", "NoAsk")
 ALL = OF_TEXT + ("NoWeb", "NoName")
@@ -26,6 +29,10 @@ PLACES = {
     drawn: ("drawn_by", "drawn_share"),
     heaps: ("popped", "pop_paper", "pops_shown"),
     shares: ("share_of", "share_of_both", "hardness"),
+    led_trees: ("led_trees", "count_led"),
+    tours: ("is_even", "count_tours", "tour_of", "tree_of_tour"),
+    full: ("word_of", "tree_of", "count_full", "count_full_with", "full_tree_at"),
+    apart: ("trees_apart", "apart_shown", "most_apart"),
 }
 
 

@@ -15,7 +15,7 @@ ERRORS = {"ValueError", "TypeError", "KeyError", "IndexError"}
 METHODS = {"append", "clear", "copy", "count", "endswith", "extend", "find", "get", "index",
            "insert", "items", "join", "keys", "pop", "remove", "replace", "reverse", "setdefault",
            "split", "startswith", "strip", "update", "values"}
-LIBRARY = {("heapq", "heappush"), ("heapq", "heappop"), ("math", "gcd")}
+LIBRARY = {("heapq", "heappush"), ("heapq", "heappop"), ("math", "gcd"), ("math", "factorial")}
 BARRED = {"mro", "elements", "open", "input", "law", "register", "type", "enum", "id", "format"}
 BARRED_NODES = (ast.Import, ast.Global, ast.AsyncFunctionDef, ast.Await, ast.Div, ast.Pow,
                 ast.Starred)

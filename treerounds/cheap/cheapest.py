@@ -4,7 +4,7 @@ from heapq import heappop, heappush
 
 from treerounds.errors import NoTree
 from treerounds.trees.joins import without_rounds
-from treerounds.trees.trees import check_tree, exchanges_of, is_tree, swapped, ways_from
+from treerounds.trees.trees import check_tree, exchanges_of, is_tree, swapped, way_beside
 
 
 def cost_of(web, tree):
@@ -76,12 +76,6 @@ def cheapest_tree(web):
 def ties_outside(web, tree):
     """The ties that are not in a tree, rising."""
     return [tie for tie in range(len(web[1])) if tie not in tree]
-
-
-def way_beside(web, tree, tie):
-    """The way in a tree between the two names of a tie."""
-    one, other, _ = web[1][tie]
-    return ways_from(web, tree, one)[other]
 
 
 def is_heaviest(web, way, tie, held):

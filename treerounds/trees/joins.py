@@ -1,4 +1,7 @@
-"""Which names hang together by some ties, kept as a dict from each name to the head of its part."""
+"""Which names hang together by some ties, kept as a dict from each name to the head of its part.
+
+Of arrows, or of pairs of names, it is told as of ties, whichever way they lead.
+"""
 
 
 def apart_heads(names):
@@ -27,7 +30,7 @@ def without_rounds(web, order):
     heads = apart_heads(names)
     kept = []
     for tie in order:
-        one, other, _ = ties[tie]
+        one, other = ties[tie][0], ties[tie][1]
         if heads[one] != heads[other]:
             heads = joined(heads, one, other)
             kept.append(tie)

@@ -7,12 +7,8 @@ from treerounds.webs.parts import check_names, is_tie
 
 def is_tree(web, row):
     """Whether a row of whole numbers is a tree of the web."""
-    if not isinstance(row, tuple) or len(row) != len(web[0]) - 1:
-        return False
-    if not all(is_tie(web, tie) for tie in row):
-        return False
     # As many ties as a tree has, with no way round, lead from each name to each.
-    return rises(row) and without_rounds(web, row) == list(row)
+    return is_forest(web, row) and len(row) == len(web[0]) - 1
 
 
 def way_in(web, tree, one, other):
@@ -50,6 +46,13 @@ def exchanges_between(web, one, other):
     return tuple(exchanges)
 
 
+def is_forest(web, row):
+    """Whether a row of whole numbers is rising ties' numbers with no way round."""
+    if not isinstance(row, tuple) or not all(is_tie(web, tie) for tie in row):
+        return False
+    return rises(row) and without_rounds(web, row) == list(row)
+
+
 def check_tree(web, row):
     """Refuse with NoTree a row that is no tree of the web."""
     if not is_tree(web, row):
@@ -61,18 +64,24 @@ def rises(row):
     return all([row[at] < row[at + 1] for at in range(len(row) - 1)])
 
 
-def ways_from(web, tree, start):
-    """A dict of the ways in a tree from one name to each, as tuples of ties."""
-    names, ties = web
-    ways = {start: ()}
-    while len(ways) < len(names):
-        for tie in tree:
-            one, other, _ = ties[tie]
+def ways_from(web, forest, start):
+    """A dict of the ways in a forest from one name to each that it leads to, as tuples of ties."""
+    ways, reached = {start: ()}, 0
+    while reached < len(ways):
+        reached = len(ways)
+        for tie in forest:
+            one, other, _ = web[1][tie]
             if one in ways and other not in ways:
                 ways[other] = ways[one] + (tie,)
             elif other in ways and one not in ways:
                 ways[one] = ways[other] + (tie,)
     return ways
+
+
+def way_beside(web, forest, tie):
+    """The way in a forest between the two names of a tie, or None where there is none."""
+    one, other, _ = web[1][tie]
+    return ways_from(web, forest, one).get(other)
 
 
 def cut_of(web, tree, tie):

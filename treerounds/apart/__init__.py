@@ -1,0 +1,1 @@
+"""Trees that share no tie, and forests that hold each tie once."""

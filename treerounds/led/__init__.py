@@ -1,0 +1,1 @@
+"""Arrow webs: trees led to a place, and tours."""

@@ -1,0 +1,1 @@
+"""Trees of all places, told by words."""
