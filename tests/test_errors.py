@@ -2,14 +2,14 @@
 
 import unittest
 
-from treerounds import errors
-from treerounds.apart import apart
+from treerounds import errors, kept, whole
+from treerounds.apart import apart, forests
 from treerounds.cheap import cheapest
 from treerounds.drawn import drawn, heaps
 from treerounds.led import led_trees, tours
 from treerounds.rounds import rounds
 from treerounds.shares import shares
-from treerounds.trees import counts, orders, trees
+from treerounds.trees import counts, looks, orders, trees
 from treerounds.webs import drawn_in, texts
 from treerounds.words import full
 
@@ -33,6 +33,11 @@ PLACES = {
     tours: ("is_even", "count_tours", "tour_of", "tree_of_tour"),
     full: ("word_of", "tree_of", "count_full", "count_full_with", "full_tree_at"),
     apart: ("trees_apart", "apart_shown", "most_apart"),
+    forests: ("few_forests", "forests_shown", "thickest"),
+    kept: ("KeptWeb",),
+    looks: ("ends_of", "longest_way", "way_sum", "cuts_and_rounds", "trees_by_ends",
+            "ends_by_name"),
+    whole: ("Desk",),
 }
 
 

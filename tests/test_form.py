@@ -13,9 +13,10 @@ CALLED = {"len", "range", "enumerate", "zip", "min", "max", "sum", "abs", "sorte
           "divmod", "super"}
 ERRORS = {"ValueError", "TypeError", "KeyError", "IndexError"}
 METHODS = {"append", "clear", "copy", "count", "endswith", "extend", "find", "get", "index",
-           "insert", "items", "join", "keys", "pop", "remove", "replace", "reverse", "setdefault",
-           "split", "startswith", "strip", "update", "values"}
-LIBRARY = {("heapq", "heappush"), ("heapq", "heappop"), ("math", "gcd"), ("math", "factorial")}
+           "insert", "items", "join", "keys", "partition", "pop", "remove", "replace", "reverse",
+           "setdefault", "split", "startswith", "strip", "update", "values"}
+LIBRARY = {("heapq", "heappush"), ("heapq", "heappop"), ("math", "gcd"), ("math", "factorial"),
+           ("itertools", "combinations")}
 BARRED = {"mro", "elements", "open", "input", "law", "register", "type", "enum", "id", "format"}
 BARRED_NODES = (ast.Import, ast.Global, ast.AsyncFunctionDef, ast.Await, ast.Div, ast.Pow,
                 ast.Starred)
@@ -56,6 +57,17 @@ def defined_names(tree):
     return [node.name for node in tree.body if isinstance(node, (ast.FunctionDef, ast.ClassDef))]
 
 
+def fixed_names(tree):
+    """The names of a file that are given a plain value."""
+    return [node.targets[0].id for node in tree.body if isinstance(node, ast.Assign)]
+
+
+def methods_of(tree):
+    """The methods of a file's own classes."""
+    return {node.name for kind in tree.body if isinstance(kind, ast.ClassDef)
+            for node in kind.body if isinstance(node, ast.FunctionDef)}
+
+
 def parents_of(tree):
     """For each node, by its identity, the node that it stands in."""
     return {id(child): node for node in ast.walk(tree) for child in ast.iter_child_nodes(node)}
@@ -89,7 +101,7 @@ class Imports(unittest.TestCase):
         defined = {}
         for path, tree in trees_of_files():
             parts = pathlib.Path(path).relative_to(PACKAGE.parent).with_suffix("").parts
-            defined[".".join(parts)] = defined_names(tree)
+            defined[".".join(parts)] = defined_names(tree) + fixed_names(tree)
         for path, node in nodes_of(ast.ImportFrom):
             self.assertEqual(node.level, 0, path)
             for alias in node.names:
@@ -128,6 +140,16 @@ class Names(unittest.TestCase):
                 self.assertNotIn(name, BARRED, (path, name))
                 self.assertFalse(name.startswith("__"), (path, name))
 
+    def test_own_methods_and_attributes_have_names_of_their_own(self):
+        taken = {name for kind in (str, list, dict, set, tuple, int, bytes) for name in dir(kind)}
+        for path, tree in trees_of_files():
+            attributes = {node.attr for node in ast.walk(tree) if isinstance(node, ast.Attribute)
+                          and isinstance(node.ctx, ast.Store)}
+            methods = methods_of(tree) - {"__init__"}
+            self.assertFalse(attributes & methods, path)
+            for name in attributes | methods:
+                self.assertNotIn(name, taken | BARRED | set(dir(builtins)), (path, name))
+
     def test_an_underscore_is_never_read(self):
         for path, node in nodes_of(ast.Name):
             self.assertFalse(node.id == "_" and isinstance(node.ctx, ast.Load), path)
@@ -151,14 +173,16 @@ class Expressions(unittest.TestCase):
 
     def test_builtins_and_methods(self):
         for path, tree in trees_of_files():
-            own = set(imported_names(tree) + defined_names(tree))
+            # A function out of a table is called by this name.
+            own = set(imported_names(tree) + defined_names(tree) + ["answer"])
+            methods = METHODS | methods_of(tree)
             for node in ast.walk(tree):
                 if not isinstance(node, ast.Call):
                     continue
                 if isinstance(node.func, ast.Name):
                     self.assertIn(node.func.id, own | CALLED, path)
-                elif node.func.attr != "__init__":
-                    self.assertIn(node.func.attr, METHODS, path)
+                else:
+                    self.assertIn(node.func.attr, methods, path)
 
     def test_builtins_are_called_and_not_kept(self):
         for path, tree in trees_of_files():

@@ -66,11 +66,16 @@ def weight_of(web, tie):
     return web[1][tie][2]
 
 
+def cheapest_forest(web):
+    """Of the ties in order of weight, then of names, each with no way round with those ahead."""
+    order = sorted(range(len(web[1])), key=lambda tie: (weight_of(web, tie), tie))
+    return tuple(sorted(without_rounds(web, order)))
+
+
 def cheapest_tree(web):
     """The first tree in order of cost, then as tuples, or None where there is none."""
-    order = sorted(range(len(web[1])), key=lambda tie: (weight_of(web, tie), tie))
-    kept = without_rounds(web, order)
-    return tuple(sorted(kept)) if len(kept) == len(web[0]) - 1 else None
+    forest = cheapest_forest(web)
+    return forest if len(forest) == len(web[0]) - 1 else None
 
 
 def ties_outside(web, tree):
