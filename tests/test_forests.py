@@ -221,6 +221,12 @@ class Lookers(unittest.TestCase):
                       names + names[-1:], names + names, ("a", "b", "c", "d", "x"), ("A",) + names[1:],
                       ("b", "a", "c", "d", "e"), ("x", "y")):
             self.assertIs(forests_shown(web, forests, fault), False)
+        # More ties lie among these names than need be, so one name more would not matter.
+        web = full_web(4)
+        forests, names = few_forests(web)
+        for fault in (names + ("e",), names + ("x",), ("",) + names, ("A",) + names):
+            self.assertIs(forests_shown(web, forests, fault), False)
+        self.assertIs(forests_shown(web, forests, names), True)
 
     def test_of_one_forest_or_none(self):
         for names in ((), ("a",), ("a", "b"), ("x",), tuple("abcd")):
